@@ -1,0 +1,1 @@
+"""Willdealt: last wills, read from text and dealt out."""

@@ -1,0 +1,17 @@
+"""What a name is."""
+
+LETTERS = "abcdefghijklmnopqrstuvwxyz"
+LONGEST = 8
+
+# These have a meaning of their own in a will's text.
+WORDS = (
+    "all", "and", "children", "childless", "crown", "else", "if",
+    "lives", "not", "of", "or", "stock", "to",
+)
+
+
+def is_name(thing):
+    """Tell whether a thing of any kind is a name."""
+    if not isinstance(thing, str) or not 1 <= len(thing) <= LONGEST:
+        return False
+    return thing not in WORDS and all([sign in LETTERS for sign in thing])
