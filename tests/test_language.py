@@ -1,4 +1,4 @@
-"""The rules of ../shared/LANGUAGE.md that can be seen without running the package."""
+"""Some rules of ../shared/LANGUAGE.md, checked on the sources: signs, sizes, words, imports, module level."""
 
 import ast
 import pathlib
