@@ -1,6 +1,11 @@
-"""Some rules of ../shared/LANGUAGE.md, checked on the sources: signs, sizes, words, imports, module level."""
+"""Some rules of ../shared/LANGUAGE.md, checked on the sources.
+
+Signs, sizes, words, imports, module level; which builtins are used, and that no name hides one of them or
+an import; that no name is a method here and an attribute there; that no two files import from each other.
+"""
 
 import ast
+import builtins
 import pathlib
 import re
 import unittest
@@ -14,6 +19,10 @@ BARRED = re.compile(
 AT_TOP = (ast.Import, ast.ImportFrom, ast.FunctionDef, ast.ClassDef, ast.Assign, ast.Expr)
 NEVER = (ast.Global, ast.AsyncFunctionDef, ast.AsyncFor, ast.AsyncWith, ast.Await, ast.Div)
 DUNDERS = re.compile(r"__(init|eq|repr|str|len)__$")
+LET = set(
+    "len range enumerate zip min max sum abs sorted reversed int str bool list tuple dict set isinstance ord repr "
+    "any all divmod ValueError LookupError ArithmeticError KeyError".split()
+)
 
 
 def files():
@@ -33,6 +42,20 @@ def bound(node):
     if isinstance(node, ast.Assign):
         return [target.id for target in node.targets]
     return []
+
+
+def local_names(function):
+    """The names that a function binds: its parameters, and what it assigns to."""
+    args = function.args
+    names = [each.arg for each in args.args + args.kwonlyargs + [args.vararg, args.kwarg] if each is not None]
+    return names + [
+        node.id for node in ast.walk(function) if isinstance(node, ast.Name) and isinstance(node.ctx, ast.Store)
+    ]
+
+
+def imported_files(tree):
+    """The files of the package that a file imports from."""
+    return [node.module.split(".")[1] for node in tree.body if isinstance(node, ast.ImportFrom)]
 
 
 class Language(unittest.TestCase):
@@ -87,6 +110,47 @@ class Language(unittest.TestCase):
                         self.assertRegex(node.name, DUNDERS)
                 if isinstance(node, ast.Constant):
                     self.assertNotIsInstance(node.value, (float, complex), path)
+
+    def test_builtins(self):
+        own = dir(builtins)
+        for path, tree in trees():
+            for node in ast.walk(tree):
+                if isinstance(node, ast.Name) and node.id in own:
+                    self.assertIn(node.id, LET, path)
+                self.assertNotIsInstance(node, ast.GeneratorExp, path)
+                if isinstance(node, ast.Compare):
+                    for sign, right in zip(node.ops, node.comparators):
+                        if isinstance(sign, (ast.Is, ast.IsNot)):
+                            self.assertIsInstance(right, ast.Constant, path)
+
+    def test_no_name_hides_another(self):
+        for path, tree in trees():
+            hidden = [name for node in tree.body if not isinstance(node, (ast.FunctionDef, ast.Assign))
+                      for name in bound(node)] + dir(builtins)
+            for node in ast.walk(tree):
+                if isinstance(node, (ast.FunctionDef, ast.Lambda)):
+                    for name in local_names(node):
+                        self.assertNotIn(name, hidden, path)
+                        self.assertFalse(name.startswith("_"), path)
+
+    def test_methods_and_attributes(self):
+        methods, attributes, read = set(), set(), set()
+        for path, tree in trees():
+            for node in ast.walk(tree):
+                if isinstance(node, ast.ClassDef):
+                    methods |= {each.name for each in node.body if isinstance(each, ast.FunctionDef)}
+                if isinstance(node, ast.Attribute):
+                    (attributes if isinstance(node.ctx, ast.Store) else read).add(node.attr)
+        self.assertEqual(methods & attributes, set())
+        built = set(dir(str)) | set(dir(list)) | set(dir(dict))
+        self.assertEqual(read - methods - attributes - built, set())
+
+    def test_no_two_files_import_from_each_other(self):
+        wanted = {path.stem: imported_files(tree) for path, tree in trees()}
+        while wanted:
+            free = [name for name, others in wanted.items() if not [each for each in others if each in wanted]]
+            self.assertNotEqual(free, [], wanted)
+            wanted = {name: others for name, others in wanted.items() if name not in free}
 
 
 if __name__ == "__main__":

@@ -3,12 +3,18 @@
 from willdealt.errors import NoShares, NoSum
 
 MOST_PENNIES = 10 ** 12
+MOST_SUM = 10 ** 9
 MOST_SHARES = 64
 
 
 def is_whole(thing):
     """Tell whether a thing of any kind is a whole number."""
     return isinstance(thing, int) and not isinstance(thing, bool)
+
+
+def is_sum(thing):
+    """Tell whether a thing of any kind is a sum that a house or a will may tell."""
+    return is_whole(thing) and 0 <= thing <= MOST_SUM
 
 
 def common_measure(one, other):
