@@ -223,6 +223,8 @@ class Comes(unittest.TestCase):
         self.assertIs(comes(house=HOUSE, cond=ANN, story=story), True)
         self.assertIs(comes(wait=3, story=story, cond=ANN, house=HOUSE), False)
         self.assertIs(comes(HOUSE, ANN, story, wait=2), True)
+        told = [comes(HOUSE, ANN, Story((("ann", day),))) for day in (-1, 0, 1)]
+        self.assertEqual(told, [False, False, True])
 
     def test_the_bounds_are_let(self):
         six = ("and",) + (ANN,) * 6

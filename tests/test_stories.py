@@ -69,6 +69,8 @@ class Asked(unittest.TestCase):
     def test_lives(self):
         told = [self.story.lives(name) for name in ("ann", "ben", "cat", "dan")]
         self.assertEqual(told, [False, True, False, True])
+        told = [Story((("ann", day),)).lives("ann") for day in (-1, 0, 1)]
+        self.assertEqual(told, [False, False, True])
 
     def test_lives_ahead_of_on_and_behind_the_day(self):
         for name, day in DEATHS:

@@ -215,6 +215,8 @@ class Takers(unittest.TestCase):
         story = dead("ann", 3)
         self.assertEqual(takers(house=HOUSE, whom=((ONE,),), story=story), (("ann", (1, 1)),))
         self.assertEqual(takers(wait=3, story=story, whom=((ONE,),), house=HOUSE), ())
+        told = [len(takers(HOUSE, ((ONE,),), dead("ann", day))) for day in (-1, 0, 1)]
+        self.assertEqual(told, [0, 0, 1])
 
 
 class Refusals(unittest.TestCase):

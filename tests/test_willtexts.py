@@ -241,7 +241,8 @@ class Whoms(Refused):
                      "children of ( a and ( b and c ) )", "children of ( )", "( )", "()", "children of ( a and )",
                      "children ( a and b )", "( children of a and children of b )", "( children of a else b )",
                      "children of a b", "children a", "children of", "children of of a", "a b", "and a", "a and and b",
-                     "children of stock of a", "children of ( a b )", "( ( children of ( a and b ) ) )", "not a"):
+                     "children of stock of a", "children of ( a b )", "( ( children of ( a and b ) ) )", "not a",
+                     "one of a", "( one of a )", "( one of ( a and b ) )", "one of ( a and b )"):
             self.line_refused("pay 1 to " + text)
 
     def test_a_cond_behind(self):

@@ -7,6 +7,13 @@ class Own:
     """A thing of a kind that the program doesn't know."""
 
 
+class Alike:
+    """A thing that calls itself equal to everything."""
+
+    def __eq__(self, other):
+        return True
+
+
 def deep(thing, many):
     """A thing within MANY lists and tuples."""
     for turn in range(many):
@@ -17,7 +24,7 @@ def deep(thing, many):
 # None of these is a name, a whole number, a day, or anything that a house, story or will is made of.
 ANY_KIND = (
     None, True, False, "", " ", "Ann", "crown", "else", "x" * 9, "ann\n", b"", b"ann", b"near", (), [], {},
-    ("ann",), ["ann"], {"ann": 1}, {"ann"}, frozenset(("ann",)), (None,), ((),), ("", ""), Own(), Own, len,
+    ("ann",), ["ann"], {"ann": 1}, {"ann"}, frozenset(("ann",)), (None,), ((),), ("", ""), Own(), Alike(), Own, len,
     range(3), Fraction(1, 2), 10 ** 4000, -(10 ** 4000), deep("ann", 7), deep((), 7), deep({}, 7),
 )
 
@@ -30,8 +37,8 @@ NO_NAMES = ("", "abcdefghi", "Ann", "ann ", " ann", "a b", "an1", "-", "(", ")",
 def other_leaves(leaf):
     """Things of other kinds than a text or a whole number, that look like it."""
     if isinstance(leaf, str):
-        return [leaf.encode(), (leaf,), [leaf], None, True, 5, leaf.upper() + "X", {leaf: 1}, Own()]
-    return [str(leaf), (leaf,), [leaf], None, True, False, Fraction(leaf), {leaf: leaf}, Own()]
+        return [leaf.encode(), (leaf,), [leaf], None, True, 5, leaf.upper() + "X", {leaf: 1}, Own(), Alike()]
+    return [str(leaf), (leaf,), [leaf], None, True, False, Fraction(leaf), {leaf: leaf}, Own(), Alike()]
 
 
 def otherwise(thing):

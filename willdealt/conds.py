@@ -3,12 +3,13 @@
 from willdealt.days import is_day
 from willdealt.errors import NoCond, NoDay
 from willdealt.houses import check_persons
-from willdealt.names import is_name
+from willdealt.names import is_name, is_word
 
 MOST_DEEP = 6
 FEWEST_TERMS = 2
 MOST_TERMS = 6
 MOST_NAMES = 12
+COND_WORDS = ("lives", "childless", "not", "and", "or")
 
 
 def is_lives(thing):
@@ -23,14 +24,14 @@ def is_formed(thing, room):
     if room == 0 or not isinstance(thing, tuple) or len(thing) < 2:
         return False
     word = thing[0]
+    if not is_word(word, COND_WORDS):
+        return False
     if word == "lives":
         return is_lives(thing)
     if word == "childless":
         return len(thing) == 2 and is_name(thing[1])
     if word == "not":
         return len(thing) == 2 and is_formed(thing[1], room - 1)
-    if word != "and" and word != "or":
-        return False
     terms = thing[1:]
     if not FEWEST_TERMS <= len(terms) <= MOST_TERMS:
         return False

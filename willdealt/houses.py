@@ -1,7 +1,7 @@
 """Houses: people with parents, goods of kinds, a purse, debts."""
 
 from willdealt.errors import NoGoods, NoPeople, NoPerson, NoSum, NoThing
-from willdealt.names import is_name
+from willdealt.names import is_name, is_word
 from willdealt.pennies import is_sum
 
 MOST_PEOPLE = 8
@@ -15,7 +15,7 @@ def is_person(thing, ahead):
     name, parent = thing
     if not is_name(name) or name in ahead:
         return False
-    return parent is None or parent in ahead
+    return parent is None or is_word(parent, ahead)
 
 
 def is_good(thing, ahead):
@@ -51,7 +51,7 @@ def check_goods(goods):
 def row_named(rows, name):
     """The row that begins with a name, None where none does."""
     for row in rows:
-        if row[0] == name:
+        if is_word(name, (row[0],)):
             return row
     return None
 
@@ -91,7 +91,7 @@ class House:
 
     def goods(self, kind=None, key=None):
         """The names of all things, or of those of a kind, as told or by what a key tells."""
-        names = [row[0] for row in self.things if kind is None or row[1] == kind]
+        names = [row[0] for row in self.things if kind is None or is_word(kind, (row[1],))]
         if key is not None:
             names = sorted(names, key=lambda name: key(name))
         return tuple(names)

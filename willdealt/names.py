@@ -1,4 +1,4 @@
-"""What a name is."""
+"""What a name is, and what is one of some words."""
 
 LETTERS = "abcdefghijklmnopqrstuvwxyz"
 LONGEST = 8
@@ -8,6 +8,12 @@ WORDS = (
     "all", "and", "children", "childless", "crown", "else", "if",
     "lives", "not", "of", "or", "stock", "to",
 )
+
+
+def is_word(thing, words):
+    """Tell whether a thing of any kind is one of some words."""
+    # Things of other kinds aren't compared: they may call themselves equal to a text.
+    return isinstance(thing, str) and thing in words
 
 
 def is_name(thing):

@@ -3,7 +3,7 @@
 from willdealt.days import is_day
 from willdealt.errors import NoDay, NoWhom
 from willdealt.houses import check_persons
-from willdealt.names import is_name
+from willdealt.names import is_name, is_word
 from willdealt.pennies import common_measure
 
 MOST_ALTERNATIVES = 4
@@ -15,7 +15,7 @@ def is_part(thing):
     """Tell whether a thing of any kind is a part of an alternative."""
     if not isinstance(thing, tuple) or len(thing) != 2:
         return False
-    return thing[0] in PART_WORDS and is_name(thing[1])
+    return is_word(thing[0], PART_WORDS) and is_name(thing[1])
 
 
 def is_alternative(thing):

@@ -3,7 +3,7 @@
 from willdealt.conds import is_cond_or_none
 from willdealt.days import is_day
 from willdealt.errors import NoClause, TooMany
-from willdealt.names import is_name
+from willdealt.names import is_name, is_word
 from willdealt.pennies import is_sum, is_whole
 from willdealt.plainly import plain_clause
 from willdealt.whoms import is_whom
@@ -20,18 +20,18 @@ def is_weight(thing):
 
 def is_given(word, what):
     """Tell whether WHAT can be given by a clause that begins with WORD."""
-    if word == "give" or word == "kind":
+    if is_word(word, ("give", "kind")):
         return is_name(what)
-    if word == "pay":
+    if is_word(word, ("pay",)):
         return is_sum(what)
-    return word == "rest" and is_weight(what)
+    return is_word(word, ("rest",)) and is_weight(what)
 
 
 def is_row_of_ranks(thing):
     """Tell whether a thing of any kind tells each of the ranks once."""
     if not isinstance(thing, tuple) or len(thing) != len(RANKS):
         return False
-    return all([rank in thing for rank in RANKS])
+    return all([is_word(rank, RANKS) for rank in thing]) and len(set(thing)) == len(RANKS)
 
 
 def is_clause(thing):
@@ -44,9 +44,9 @@ def is_clause(thing):
     if len(thing) != 2:
         return False
     word, what = thing
-    if word == "wait":
+    if is_word(word, ("wait",)):
         return is_day(what) and what >= 0
-    return word == "ranks" and is_row_of_ranks(what)
+    return is_word(word, ("ranks",)) and is_row_of_ranks(what)
 
 
 def check_clauses(clauses):

@@ -2,6 +2,7 @@
 
 from willdealt.drafts import draft_line
 from willdealt.errors import NoReading, NoText
+from willdealt.names import is_word
 from willdealt.spotted import clause_of, draft_spots
 from willdealt.wills import MOST_CLAUSES, Will
 
@@ -25,7 +26,7 @@ def read_will(text, reading="near"):
     """The will that a text tells, all of its spots read in one way."""
     if not isinstance(text, str):
         raise NoText(None)
-    if reading not in READINGS:
+    if not is_word(reading, READINGS):
         raise NoReading(reading)
     clauses = [read_line(row, line, reading) for line, row in enumerate(text_lines(text))]
     return Will(tuple(clauses))
