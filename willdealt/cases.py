@@ -3,17 +3,9 @@
 from willdealt.conds import leaves
 from willdealt.errors import TooMany
 from willdealt.stories import Story
+from willdealt.wills import wait_of
 
 MOST_CASES = 256
-
-
-def wait_of(will):
-    """The wait of a will: that of its last clause of the sort, else 0."""
-    wait = 0
-    for clause in will.clauses():
-        if clause[0] == "wait":
-            wait = clause[1]
-    return wait
 
 
 def clause_days(clause):
@@ -46,14 +38,18 @@ def all_deaths(names, days):
     return rows
 
 
-def cases(house, will):
-    """All cases, those with fewer deaths ahead, then by deaths."""
-    days = hours(will)
+def cases_of_days(house, days):
+    """All stories in which each person lives on or dies on one of the days, those with fewer deaths ahead."""
     many = how_many(len(house.people()), len(days))
     if many > MOST_CASES:
         raise TooMany(many)
     rows = all_deaths(sorted(house.people()), days)
     return tuple([Story(row) for row in sorted(rows, key=lambda deaths: (len(deaths), deaths))])
+
+
+def cases(house, will):
+    """All cases, those with fewer deaths ahead, then by deaths."""
+    return cases_of_days(house, hours(will))
 
 
 def case_death(story, name, days):

@@ -147,3 +147,8 @@ def check_persons(house, names):
     for name in names:
         if name not in people:
             raise NoPerson(name)
+
+
+def check_thing(house, name):
+    """Refuse a name of any kind that none of the house's things has."""
+    house.good(name)

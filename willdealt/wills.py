@@ -10,6 +10,7 @@ from willdealt.whoms import is_whom
 
 MOST_CLAUSES = 16
 MOST_WEIGHT = 99
+# In the order in which they stand where a will tells no other.
 RANKS = ("rest", "kinds", "sums", "names")
 
 
@@ -88,3 +89,22 @@ class Will:
 
     def __repr__(self):
         return f"Will({len(self.held)})"
+
+
+def last_told(will, word, otherwise):
+    """What the last clause with a word tells, OTHERWISE where there is none."""
+    told = otherwise
+    for clause in will.clauses():
+        if clause[0] == word:
+            told = clause[1]
+    return told
+
+
+def wait_of(will):
+    """The day that counts where a will's clauses tell none."""
+    return last_told(will, "wait", 0)
+
+
+def ranks_of(will):
+    """The ranks of a will, in the order in which they bear what lacks."""
+    return last_told(will, "ranks", RANKS)

@@ -14,10 +14,14 @@ def text_lines(text):
     return [] if text == "" else text.split("\n")
 
 
+def check_room(rows, most, line):
+    """Refuse a line that would tell one more of what there are MOST at the most."""
+    if len(rows) >= most:
+        raise NoText(line)
+
+
 def read_line(text, line, reading):
     """The clause of a line, all of its spots read in one way."""
-    if line >= MOST_CLAUSES:
-        raise NoText(line)
     draft = draft_line(text, line)
     return clause_of(draft, draft_spots(draft) if reading == "wide" else [], line)
 
@@ -28,7 +32,10 @@ def read_will(text, reading="near"):
         raise NoText(None)
     if not is_word(reading, READINGS):
         raise NoReading(reading)
-    clauses = [read_line(row, line, reading) for line, row in enumerate(text_lines(text))]
+    clauses = []
+    for line, row in enumerate(text_lines(text)):
+        check_room(clauses, MOST_CLAUSES, line)
+        clauses.append(read_line(row, line, reading))
     return Will(tuple(clauses))
 
 
