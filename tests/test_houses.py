@@ -1,4 +1,4 @@
-"""Point [6]: houses. (Of [7] only how a house is written.)"""
+"""Point [6]: houses. (Read from texts: test_housetexts.py.)"""
 
 import unittest
 
@@ -14,6 +14,10 @@ EIGHT_GOODS = tuple((name, "k", 1) for name in "abcdefgh")
 
 def house():
     return House(PEOPLE, GOODS, 7, 12)
+
+
+def less_by_worth(name):
+    return -house().worth(name)
 
 
 class People(unittest.TestCase):
@@ -119,6 +123,17 @@ class Sums(unittest.TestCase):
 
 
 class Refusals(unittest.TestCase):
+    def test_of_two_faults_the_first(self):
+        people, goods = (("Ann", None),), (("cup", "gold", True),)
+        for refusal, thing, parts in (
+            (NoPeople, 0, (people, goods)), (NoPeople, 0, (people, None, True)), (NoPeople, 0, (people, None, 0, True)),
+            (NoGoods, 0, (PEOPLE, goods, True)), (NoGoods, 0, (PEOPLE, goods, 0, True)), (NoSum, True, (PEOPLE, (), True, -1)),
+            (NoPeople, 1, (PEOPLE[:1] + people + PEOPLE[:1],)), (NoGoods, 1, (PEOPLE, GOODS[:1] + goods + GOODS[:1])),
+        ):
+            with self.assertRaises(refusal) as caught:
+                House(*parts)
+            self.assertEqual(vars(caught.exception), {"thing" if refusal is NoSum else "number": thing})
+
     def test_from_the_left(self):
         with self.assertRaises(NoPeople):
             House((), [], -1, -1)
@@ -176,6 +191,9 @@ class WhatIsTold(unittest.TestCase):
         self.assertEqual(house().goods(key=lambda name: name), ("ann", "bed", "cup", "ring"))
         self.assertEqual(house().goods(key=len), ("ann", "cup", "bed", "ring"))
         self.assertEqual(house().goods(key=lambda name: 0), house().goods())
+        self.assertEqual(house().goods(None, less_by_worth), ("ann", "ring", "bed", "cup"))
+        self.assertEqual(house().goods("gold", key=less_by_worth), ("ring", "cup"))
+        self.assertEqual(house().goods(key=lambda name: (house().kind(name), name)), ("cup", "ring", "ann", "bed"))
         self.assertEqual(house().goods("gold", house().worth), ("cup", "ring"))
         self.assertEqual(house().goods(key=len, kind="zed"), ())
 

@@ -1,7 +1,9 @@
 """Some rules of ../shared/LANGUAGE.md, checked on the sources.
 
 Signs, sizes, words, imports, module level; which builtins are used, and that no name hides one of them or
-an import; that no name is a method here and an attribute there; that no two files import from each other.
+an import; that no name is a method here and an attribute there; that no two files import from each other; which
+methods of builtin values are called, and with which keywords; what is iterated at once; how errors are raised;
+what the double-underscore methods tell; which names aren't used.
 """
 
 import ast
@@ -23,6 +25,21 @@ LET = set(
     "len range enumerate zip min max sum abs sorted reversed int str bool list tuple dict set isinstance ord repr "
     "any all divmod ValueError LookupError ArithmeticError KeyError".split()
 )
+# L25: the methods of builtin values that are called so far, all of them listed there.
+BUILT_IN_METHODS = set(
+    "append extend get index insert items join pop removeprefix replace split startswith update".split()
+)
+# L22: builtins that take keywords, and which.
+KEYWORDS = {"sorted": {"key", "reverse"}, "min": {"key", "default"}, "max": {"key", "default"}, "sum": {"start"},
+            "enumerate": {"start"}, "zip": {"strict"}}
+# L17: never names of variables, functions, classes, parameters or methods.
+UNUSED = set(
+    "register mro elements open input version_info with_traceback add_note attrgetter breakpoint builtins compile "
+    "copyright credits delattr dir eval exec exit gc getattr globals hasattr help id importlib license locals "
+    "methodcaller os quit setattr super vars sys".split()
+)
+AT_ONCE = ("zip", "enumerate", "reversed", "range")
+TAKES_AT_ONCE = ("list", "tuple", "dict", "sorted", "sum", "any", "all", "enumerate", "zip", "min", "max")
 
 
 def files():
@@ -56,6 +73,21 @@ def local_names(function):
 def imported_files(tree):
     """The files of the package that a file imports from."""
     return [node.module.split(".")[1] for node in tree.body if isinstance(node, ast.ImportFrom)]
+
+
+def bound_in(file):
+    """The names that a file of the package defines."""
+    tree = ast.parse((PACKAGE / (file + ".py")).read_text())
+    return [name for node in tree.body for name in bound(node)]
+
+
+def is_plainly_a_text(value):
+    """Whether a value is a literal text, an f-string, str(..), repr(..) or the join of a literal."""
+    if isinstance(value, ast.Call):
+        if isinstance(value.func, ast.Name):
+            return value.func.id in ("str", "repr")
+        return value.func.attr == "join" and isinstance(value.func.value, ast.Constant)
+    return isinstance(value, ast.JoinedStr) or (isinstance(value, ast.Constant) and isinstance(value.value, str))
 
 
 class Language(unittest.TestCase):
@@ -151,6 +183,85 @@ class Language(unittest.TestCase):
             free = [name for name, others in wanted.items() if not [each for each in others if each in wanted]]
             self.assertNotEqual(free, [], wanted)
             wanted = {name: others for name, others in wanted.items() if name not in free}
+
+    def test_methods_of_builtin_values(self):
+        own = {each.name for path, tree in trees() for node in ast.walk(tree) if isinstance(node, ast.ClassDef)
+               for each in node.body if isinstance(each, ast.FunctionDef)}
+        for path, tree in trees():
+            for node in ast.walk(tree):
+                if isinstance(node, ast.Call) and isinstance(node.func, ast.Attribute):
+                    self.assertIn(node.func.attr, own | BUILT_IN_METHODS, path)
+                    if node.func.attr in BUILT_IN_METHODS:
+                        self.assertEqual(node.keywords, [], path)
+        # So a method of an own class never looks like one of a list, text or dict.
+        self.assertEqual(own & (set(dir(str)) | set(dir(list)) | set(dir(dict)) | set(dir(set)) | set(dir(int))),
+                         {name for name in own if name.startswith("__")})
+
+    def test_keywords_of_builtins(self):
+        for path, tree in trees():
+            for node in ast.walk(tree):
+                if isinstance(node, ast.Call) and isinstance(node.func, ast.Name) and node.func.id in LET:
+                    told = {keyword.arg for keyword in node.keywords}
+                    self.assertLessEqual(told, KEYWORDS.get(node.func.id, set()), path)
+
+    def test_iterated_at_once(self):
+        for path, tree in trees():
+            let = set()
+            for node in ast.walk(tree):
+                if isinstance(node, (ast.For, ast.comprehension)):
+                    let.add(node.iter)
+                if isinstance(node, ast.Call) and isinstance(node.func, ast.Name) and node.func.id in TAKES_AT_ONCE:
+                    let.update(node.args[:1])
+            for node in ast.walk(tree):
+                if isinstance(node, ast.Call):
+                    name = node.func.id if isinstance(node.func, ast.Name) else getattr(node.func, "attr", None)
+                    if name in (*AT_ONCE, "items", "keys", "values"):
+                        self.assertIn(node, let, (path, node.lineno))
+
+    def test_raised_on_the_spot(self):
+        refusals = bound_in("errors")
+        for path, tree in trees():
+            for node in ast.walk(tree):
+                if isinstance(node, ast.Raise) and node.exc is not None:
+                    self.assertIsInstance(node.exc, ast.Call, path)
+                    self.assertIn(node.exc.func.id, refusals, path)
+                if isinstance(node, ast.ExceptHandler):
+                    self.assertIn(node.type.id, refusals, path)
+
+    def test_what_double_underscore_methods_tell(self):
+        for path, tree in trees():
+            for node in ast.walk(tree):
+                if not isinstance(node, ast.FunctionDef) or node.name not in ("__len__", "__str__", "__repr__", "__eq__"):
+                    continue
+                self.assertIsInstance(node.body[-1], ast.Return, path)
+                for each in ast.walk(node):
+                    self.assertNotIsInstance(each, (ast.Assign, ast.AugAssign, ast.Delete), path)
+                    if isinstance(each, ast.Return) and node.name == "__len__":
+                        self.assertEqual(each.value.func.id, "len", path)
+                    if isinstance(each, ast.Return) and node.name in ("__str__", "__repr__"):
+                        self.assertTrue(is_plainly_a_text(each.value), (path, each.lineno))
+
+    def test_names_that_are_not_used(self):
+        for path, tree in trees():
+            for node in ast.walk(tree):
+                if isinstance(node, (ast.FunctionDef, ast.ClassDef)):
+                    self.assertNotIn(node.name, UNUSED, path)
+                if isinstance(node, ast.Name):
+                    self.assertNotIn(node.id, UNUSED, path)
+                if isinstance(node, ast.arg):
+                    self.assertNotIn(node.arg, UNUSED, path)
+
+    def test_texts(self):
+        for path, tree in trees():
+            for node in ast.walk(tree):
+                if isinstance(node, ast.Constant) and isinstance(node.value, str):
+                    self.assertNotIn("%", node.value, path)
+                    self.assertFalse(node.value.endswith(("._", ".__")), path)
+
+    def test_no_two_alike_lambdas_on_one_line(self):
+        for path, tree in trees():
+            lines = [node.lineno for node in ast.walk(tree) if isinstance(node, ast.Lambda)]
+            self.assertEqual(len(lines), len(set(lines)), path)
 
 
 if __name__ == "__main__":
